@@ -1,0 +1,190 @@
+"""What the tests share: things of all kinds, right things broken in one part,
+makers of sayings, houses and bets, and second ways to answer the same questions."""
+
+import copy
+import random
+from fractions import Fraction
+from math import gcd
+
+GREAT = 10 ** 399 + 7
+WORDS = ("yes", "no", "not", "and", "or", "same")
+ALL_LETTERS = "abcdefghijklmnopqrstuvwxyz"
+
+
+def nested(made, many):
+    thing = 1
+    for turn in range(many):
+        thing = made(thing)
+    return thing
+
+
+def things():
+    """Some of anything, as point 2 tells it."""
+    plain = [None, True, False, 0, 1, -1, 2, GREAT, -GREAT, 10 ** 400 - 1,
+             "", "a", "b", "ab", "ba", "aa", "A", "1", "0", "01", "yes", "no", "not", "and", "or", "same",
+             "\n", " ", "~", "x" * 20000, "abcdefg"]
+    rows = [(), (1,), (1, 2), (2, 4), (1, 0), (0, 1), (0, 2), (1, -2), (True, 1), (1, True), (False, 1),
+            (1, 2, 3), ("yes",), ("a",), ("ab",), ("",), (None,), ((),), ((), ()), ((), ("yes",)), ("a", ()),
+            ("a", (("no",),)), ("a", (("yes",),)), (GREAT, 1), (1, GREAT), (GREAT, GREAT),
+            ((0, 1),), ((1, 1),), ((1, 2), (1, 2)), ((1, 1), (0, 1)), (((1, 1),),), (((1, 1), (0, 1)),),
+            ((((), ("yes",)), (0, 1)),), (((((1, 1), ("a",)),), ("yes",)), (1, 2))]
+    kept = [[], [1, 2], [[], []], {}, {"a": 1}, {1: 2, True: 3, None: [], "yes": {}}, {0: (1, 2)}]
+    deep = [nested(made, 10) for made in (lambda x: (x,), lambda x: [x], lambda x: {"a": x}, lambda x: (x, x))]
+    wide = [(1,) * 4999, ("yes",) * 4999, [0] * 4999, ((1, 2),) * 1600, ("no", "not") * 20, ((),) * 12]
+    mixed = [(thing, thing) for thing in kept] + [("a", thing) for thing in kept] + [(thing,) for thing in kept]
+    return plain + rows + [list(row) for row in rows] + kept + deep + wide + mixed
+
+
+SWAPS = (None, True, False, 0, 1, -1, 2, GREAT, -GREAT, "", "a", "z", "ab", "yes", "not", "and", "1",
+         (), (0, 1), (1, 1), (1, 2), (2, 2), (-1, 1), (1, 0), ("yes",), ("no",), ((), ("yes",)), [], [1, 2], {}, {1: 1})
+
+
+def part_variants(thing):
+    if isinstance(thing, bool) or thing is None:
+        return [1, 0, (), ""]
+    if isinstance(thing, int):
+        return [thing + 1, thing - 1, -thing, thing * 2, str(thing), (thing,), thing == 1, None]
+    if isinstance(thing, str):
+        return [thing + "a", thing[1:], thing[::-1], thing.upper(), (thing,), list(thing), None]
+    return variants(thing)
+
+
+def variants(row):
+    """A tuple with one part changed, left out or put in, at any depth."""
+    told = [list(row), dict(enumerate(row)), row + row, row[::-1], (row,)]
+    for at in range(len(row)):
+        told.append(row[:at] + row[at + 1:])
+        told.append(row[:at] + (row[at], row[at]) + row[at + 1:])
+        for part in part_variants(row[at]):
+            told.append(row[:at] + (part,) + row[at + 1:])
+    for at in range(len(row) + 1):
+        for part in SWAPS:
+            told.append(row[:at] + (part,) + row[at:])
+            if at < len(row):
+                told.append(row[:at] + (part,) + row[at + 1:])
+    return told
+
+
+def check_checker(case, checker, right, others=()):
+    """A checker tells just what a second way tells, of all things and of others, and changes none."""
+    for thing in things() + list(others):
+        ahead = copy.deepcopy(thing)
+        told = checker(thing)
+        case.assertIn(told, (True, False))
+        case.assertIsInstance(told, bool)
+        case.assertEqual(told, right(thing), repr(thing)[:300])
+        case.assertEqual(checker(thing), told)
+        case.assertEqual(repr(ahead), repr(thing))
+
+
+def number(thing):
+    return type(thing) is int
+
+
+def right_fraction(thing):
+    return (type(thing) is tuple and len(thing) == 2 and number(thing[0]) and number(thing[1])
+            and thing[1] > 0 and gcd(thing[0], thing[1]) == 1)
+
+
+def right_saying(letters, thing):
+    """Read from the right: how many things are still owed to the words seen."""
+    if type(thing) is not tuple or not 1 <= len(thing) <= 40:
+        return False
+    many = {"yes": 0, "no": 0, "not": 1, "and": 2, "or": 2, "same": 2}
+    many.update({letter: 0 for letter in letters})
+    owed = 1
+    for word in reversed(thing):
+        if type(word) is not str or word not in many or owed == 0:
+            return False
+        owed += many[word] - 1
+    return owed == 0
+
+
+def truth(letters, saying, world):
+    """Whether a saying holds, by parting it into its last word and what that joins."""
+    def read(at):
+        word = saying[at]
+        if word == "not":
+            one, rest = read(at - 1)
+            return not one, rest
+        if word in ("and", "or", "same"):
+            other, rest = read(at - 1)
+            one, rest = read(rest)
+            return {"and": one and other, "or": one or other, "same": one is other}[word], rest
+        return {"yes": True, "no": False}.get(word, dict(zip(letters, world)).get(word) == "1"), at - 1
+    return read(len(saying) - 1)[0]
+
+
+def worlds(house):
+    letters, rules = house
+    texts = [format(number, "b").zfill(len(letters)) for number in range(2 ** len(letters))]
+    return [world for world in texts if all(truth(letters, rule, world) for rule in rules)]
+
+
+def right_letters(thing):
+    return (type(thing) is str and 1 <= len(thing) <= 6 and set(thing) <= set(ALL_LETTERS)
+            and "".join(sorted(set(thing))) == thing)
+
+
+def right_house(thing):
+    return (type(thing) is tuple and len(thing) == 2 and right_letters(thing[0])
+            and type(thing[1]) is tuple and len(thing[1]) <= 8
+            and all(right_saying(thing[0], rule) for rule in thing[1]) and worlds(thing) != [])
+
+
+def right_bet(letters, thing):
+    return (type(thing) is tuple and len(thing) == 2 and type(thing[0]) is tuple and len(thing[0]) <= 8
+            and right_saying(letters, thing[1])
+            and all(type(term) is tuple and len(term) == 2 and right_fraction(term[0])
+                    and right_saying(letters, term[1]) for term in thing[0]))
+
+
+def worth(pair):
+    return Fraction(pair[0], pair[1])
+
+
+def pair_of(one):
+    return (one.numerator, one.denominator)
+
+
+def paid(letters, bet, world):
+    """What a bet pays, a Fraction, or None."""
+    if not truth(letters, bet[1], world):
+        return None
+    return sum([worth(amount) for amount, saying in bet[0] if truth(letters, saying, world)], Fraction(0))
+
+
+class Maker:
+    """Makes sayings, houses, bets and the like, the same ones for the same seed."""
+
+    def __init__(self, seed):
+        self.dice = random.Random(seed)
+
+    def fraction(self, most=9):
+        return pair_of(Fraction(self.dice.randint(-most, most), self.dice.randint(1, most)))
+
+    def from_zero(self, most=9):
+        return pair_of(Fraction(self.dice.randint(0, most), self.dice.randint(1, most)))
+
+    def saying(self, letters, most=9):
+        if most < 3 or self.dice.random() < 0.2:
+            return (self.dice.choice(tuple(letters) * 3 + ("yes", "no")),)
+        if self.dice.random() < 0.2:
+            return self.saying(letters, most - 1) + ("not",)
+        half = self.dice.randint(1, most - 2)
+        return (self.saying(letters, half) + self.saying(letters, most - 1 - half)
+                + (self.dice.choice(("and", "or", "same")),))
+
+    def letters(self, least=1, most=4):
+        return "".join(sorted(self.dice.sample(ALL_LETTERS, self.dice.randint(least, most))))
+
+    def house(self, least=1, most=4):
+        while True:
+            letters = self.letters(least, most)
+            house = (letters, tuple(self.saying(letters) for turn in range(self.dice.randint(0, 2))))
+            if worlds(house):
+                return house
+
+    def bet(self, letters, most=3):
+        terms = tuple((self.fraction(), self.saying(letters)) for turn in range(self.dice.randint(0, most)))
+        return (terms, self.saying(letters))
