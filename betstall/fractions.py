@@ -49,6 +49,16 @@ def turned_about(one):
     return (-one[0], one[1])
 
 
+def minus(one, other):
+    """What the first fraction is more than the second."""
+    return plus(one, turned_about(other))
+
+
+def divided(one, other):
+    """The first fraction divided by the second, which is above 0."""
+    return times(one, (other[1], other[0]))
+
+
 def less(one, other):
     """Whether the first is less than the second."""
     return one[0] * other[1] < other[0] * one[1]
@@ -62,3 +72,8 @@ def is_fraction(thing):
     if not is_number(top) or not is_number(bottom) or bottom < 1:
         return False
     return common(abs(top), bottom) == 1
+
+
+def is_from_zero(thing):
+    """Whether anything is a fraction from 0 on."""
+    return is_fraction(thing) and thing[0] >= 0

@@ -188,3 +188,82 @@ class Maker:
     def bet(self, letters, most=3):
         terms = tuple((self.fraction(), self.saying(letters)) for turn in range(self.dice.randint(0, most)))
         return (terms, self.saying(letters))
+
+    def bid(self, house, most=3):
+        while True:
+            bet = self.bet(house[0], most)
+            if lives_somewhere(house, bet):
+                return (bet, self.fraction())
+
+    def bids(self, house, many):
+        return tuple(self.bid(house) for turn in range(many))
+
+    def stakes(self, many):
+        return tuple(self.from_zero(4) if self.dice.random() < 0.7 else (0, 1) for turn in range(many))
+
+    def weighing(self, house, most=5):
+        while True:
+            parts = [max(0, self.dice.randint(-3, most)) for world in worlds(house)]
+            if sum(parts):
+                return tuple(pair_of(Fraction(part, sum(parts))) for part in parts)
+
+    def layers(self, house, many):
+        return tuple(self.weighing(house, self.dice.choice((1, 5))) for turn in range(many))
+
+
+def lives_somewhere(house, bet):
+    return any(truth(house[0], bet[1], world) for world in worlds(house))
+
+
+def right_bids(house, thing):
+    return (type(thing) is tuple and len(thing) <= 12
+            and all(type(bid) is tuple and len(bid) == 2 and right_fraction(bid[1])
+                    and right_bet(house[0], bid[0]) and lives_somewhere(house, bid[0]) for bid in thing))
+
+
+def gained(house, bids, stakes):
+    """What a book gains at each world, Fractions or None."""
+    told = []
+    for world in worlds(house):
+        alive = [(worth(stake), paid(house[0], bet, world) - worth(price))
+                 for (bet, price), stake in zip(bids, stakes) if truth(house[0], bet[1], world)]
+        staked = any(stake > 0 for stake, gain in alive)
+        told.append(sum([stake * gain for stake, gain in alive], Fraction(0)) if staked else None)
+    return told
+
+
+def losing(house, bids, thing):
+    if not (type(thing) is tuple and len(thing) == len(bids)
+            and all(right_fraction(stake) and stake[0] >= 0 for stake in thing)):
+        return False
+    gains = [gain for gain in gained(house, bids, thing) if gain is not None]
+    return bool(gains) and max(gains) < 0
+
+
+def weighing_right(house, thing):
+    return (type(thing) is tuple and len(thing) == len(worlds(house))
+            and all(right_fraction(share) and share[0] >= 0 for share in thing)
+            and sum(worth(share) for share in thing) == 1)
+
+
+def weight(house, weighing, saying):
+    return sum([worth(share) for share, world in zip(weighing, worlds(house)) if truth(house[0], saying, world)],
+               Fraction(0))
+
+
+def mean(house, weighing, bet):
+    heavy = weight(house, weighing, bet[1])
+    if heavy == 0:
+        return None
+    alive = [(worth(share), paid(house[0], bet, world)) for share, world in zip(weighing, worlds(house))]
+    return sum([share * due for share, due in alive if due is not None], Fraction(0)) / heavy
+
+
+def layers_right(house, bids, thing):
+    if not (type(thing) is tuple and len(thing) <= 40 and all(weighing_right(house, layer) for layer in thing)):
+        return False
+    for bet, price in bids:
+        heavy = [layer for layer in thing if weight(house, layer, bet[1]) > 0]
+        if not heavy or mean(house, heavy[0], bet) < worth(price):
+            return False
+    return True

@@ -133,7 +133,14 @@ class TestForm(unittest.TestCase):
                 for arg in node.args:
                     self.assertNotIsInstance(arg, ast.GeneratorExp, (path.name, node.lineno))
 
-    def test_every_import_and_name_is_used(self):
+    def test_zip_and_the_like_are_not_stored(self):
+        for path, node in nodes():
+            if isinstance(node, (ast.Assign, ast.Return)) and isinstance(node.value, ast.Call):
+                called = node.value.func
+                name = called.id if isinstance(called, ast.Name) else called.attr
+                self.assertNotIn(name, ("zip", "enumerate", "reversed", "range", "items", "keys", "values"), path.name)
+
+    def test_every_import_is_used(self):
         for path, tree in trees():
             names = [node.id for node in ast.walk(tree) if isinstance(node, ast.Name)]
             for node in imported(tree):
