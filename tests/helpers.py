@@ -210,6 +210,19 @@ class Maker:
     def layers(self, house, many):
         return tuple(self.weighing(house, self.dice.choice((1, 5))) for turn in range(many))
 
+    def living_bet(self, house, most=3):
+        return self.bid(house, most)[0]
+
+    def borne(self, house, many, beneath=True):
+        """Layers, and as many bids that they bear, at their means or some of them beneath."""
+        layers = self.layers(house, self.dice.randint(1, 3)) + (even(house),)
+        bids = []
+        for turn in range(many):
+            bet = self.living_bet(house)
+            low = Fraction(self.dice.randint(0, 3), 7) if beneath and self.dice.random() < 0.4 else 0
+            bids.append((bet, pair_of(mean_through(house, layers, bet) - low)))
+        return layers, tuple(bids)
+
 
 def lives_somewhere(house, bet):
     return any(truth(house[0], bet[1], world) for world in worlds(house))
@@ -232,9 +245,13 @@ def gained(house, bids, stakes):
     return told
 
 
+def stakes_right(bids, thing):
+    return (type(thing) is tuple and len(thing) == len(bids)
+            and all(right_fraction(stake) and stake[0] >= 0 for stake in thing))
+
+
 def losing(house, bids, thing):
-    if not (type(thing) is tuple and len(thing) == len(bids)
-            and all(right_fraction(stake) and stake[0] >= 0 for stake in thing)):
+    if not stakes_right(bids, thing):
         return False
     gains = [gain for gain in gained(house, bids, thing) if gain is not None]
     return bool(gains) and max(gains) < 0
@@ -259,6 +276,18 @@ def mean(house, weighing, bet):
     return sum([share * due for share, due in alive if due is not None], Fraction(0)) / heavy
 
 
+def even(house):
+    """The weighing in which all worlds weigh the same."""
+    many = len(worlds(house))
+    return ((1, many),) * many
+
+
+def mean_through(house, layers, bet):
+    """The mean of a bet in layers, a Fraction, or None."""
+    heavy = [layer for layer in layers if weight(house, layer, bet[1]) > 0]
+    return mean(house, heavy[0], bet) if heavy else None
+
+
 def layers_right(house, bids, thing):
     if not (type(thing) is tuple and len(thing) <= 40 and all(weighing_right(house, layer) for layer in thing)):
         return False
@@ -267,3 +296,45 @@ def layers_right(house, bids, thing):
         if not heavy or mean(house, heavy[0], bet) < worth(price):
             return False
     return True
+
+
+def low_right(house, bids, bet, thing):
+    """Whether a thing is a price paper, told world by world."""
+    if not (type(thing) is tuple and len(thing) == 4 and right_fraction(thing[0])):
+        return False
+    price, layers, stakes, more = thing
+    if not (layers_right(house, bids, layers) and stakes_right(bids, stakes) and stakes_right(bids, more)):
+        return False
+    if mean_through(house, layers, bet) != worth(price):
+        return False
+    for world, gain, further in zip(worlds(house), gained(house, bids, stakes), gained(house, bids, more)):
+        due = paid(house[0], bet, world)
+        reached = 0 if gain is None else gain
+        if due is not None and reached > due - worth(price):
+            return False
+        asked = due is None and (gain is not None or further is not None)
+        if asked and (reached > 0 or further is None or further >= 0):
+            return False
+    return True
+
+
+def shifted(pair, amount):
+    """A fraction with so much more."""
+    return pair_of(worth(pair) + amount)
+
+
+def check_refused(case, error, asked, *handed):
+    """It is refused with just this class, twice."""
+    for turn in range(2):
+        with case.assertRaises(error) as caught:
+            asked(*handed)
+        case.assertIs(type(caught.exception), error)
+
+
+def check_steady(case, asked, calls):
+    """Asked again, also behind other questions, the answers are the same, and what was handed in is as it was."""
+    ahead = copy.deepcopy(calls)
+    told = [asked(*call) for call in calls]
+    case.assertEqual([asked(*call) for call in reversed(calls)], told[::-1])
+    case.assertEqual([repr(asked(*call)) for call in copy.deepcopy(calls)], [repr(one) for one in told])
+    case.assertEqual(repr(calls), repr(ahead))

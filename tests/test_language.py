@@ -26,6 +26,9 @@ STATEMENTS = (ast.Assign, ast.AugAssign, ast.If, ast.While, ast.For, ast.Return,
               ast.Raise, ast.Assert, ast.Delete, ast.Try, ast.Expr, ast.FunctionDef, ast.ClassDef, ast.ImportFrom)
 WITHOUT = (ast.Lambda, ast.Set, ast.SetComp, ast.NamedExpr, ast.Await, ast.Div, ast.Global, ast.AsyncFor,
            ast.AsyncFunctionDef, ast.Starred, ast.Yield, ast.YieldFrom)
+SPECIAL = ("__init__",)
+BARRED_ATTRIBUTES = set("""items keys values pop update append clear extend insert remove reverse setdefault sort args
+    encode decode hex fromhex format as_integer_ratio bit_count conjugate from_bytes is_integer to_bytes""".split())
 LISTED = ("any", "all", "min", "max", "sum", "sorted")
 
 
@@ -43,6 +46,15 @@ def nodes():
 
 def imported(tree):
     return [node for node in tree.body if isinstance(node, ast.ImportFrom)]
+
+
+def own_methods():
+    classes = [node for path, node in nodes() if isinstance(node, ast.ClassDef)]
+    return {node.name for one in classes for node in one.body if isinstance(node, ast.FunctionDef)}
+
+
+def own_attributes():
+    return {node.attr for path, node in nodes() if isinstance(node, ast.Attribute) and isinstance(node.ctx, ast.Store)}
 
 
 def assigned(function):
@@ -154,7 +166,7 @@ class TestNames(unittest.TestCase):
         for path, node in nodes():
             if isinstance(node, ast.Name):
                 self.assertFalse(node.id.startswith("_"), path.name)
-            if isinstance(node, ast.FunctionDef):
+            if isinstance(node, ast.FunctionDef) and node.name not in SPECIAL:
                 self.assertFalse(node.name.startswith("_"), path.name)
 
     def test_one_meaning_for_each_name(self):
@@ -170,12 +182,29 @@ class TestNames(unittest.TestCase):
                     self.assertNotIn(name, BARRED_NAMES)
 
     def test_builtins_and_methods(self):
+        methods = own_methods()
         for path, node in nodes():
             place = (path.name, getattr(node, "lineno", 0))
             if isinstance(node, ast.Name) and node.id in dir(builtins):
                 self.assertIn(node.id, BUILTINS, place)
             if isinstance(node, ast.Call) and isinstance(node.func, ast.Attribute):
-                self.assertIn(node.func.attr, METHODS, place)
+                self.assertIn(node.func.attr, METHODS | methods, place)
+
+    def test_methods_and_attributes(self):
+        methods, attributes = own_methods(), own_attributes()
+        self.assertEqual(methods & attributes, set())
+        self.assertEqual((methods | attributes) & (METHODS | BARRED_ATTRIBUTES | BARRED_NAMES), set())
+        for path, node in nodes():
+            if isinstance(node, ast.Attribute):
+                self.assertIn(node.attr, METHODS | methods | attributes, (path.name, node.lineno))
+
+    def test_functions_are_plain(self):
+        for path, node in nodes():
+            if isinstance(node, ast.FunctionDef):
+                self.assertEqual(node.decorator_list, [], path.name)
+                self.assertIsNone(node.args.vararg or node.args.kwarg)
+                inner = [one for one in ast.walk(node) if isinstance(one, ast.FunctionDef) and one is not node]
+                self.assertEqual(inner, [], (path.name, node.name))
 
 
 if __name__ == "__main__":
