@@ -29,9 +29,12 @@ def gains_of(house, bids, stakes):
     return tuple([book_gain(house[0], bids, stakes, world) for world in worlds_of(house)])
 
 
+def lose_surely(gains):
+    """Whether some of the gains are not None, and all that are not are below 0."""
+    alive = [gain for gain in gains if gain is not None]
+    return len(alive) > 0 and all([gain[0] < 0 for gain in alive])
+
+
 def right_loss(house, bids, thing):
     """Whether anything is stakes that lose surely by the bids."""
-    if not are_stakes(bids, thing):
-        return False
-    gains = [gain for gain in gains_of(house, bids, thing) if gain is not None]
-    return len(gains) > 0 and all([gain[0] < 0 for gain in gains])
+    return are_stakes(bids, thing) and lose_surely(gains_of(house, bids, thing))

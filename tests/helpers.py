@@ -224,6 +224,11 @@ class Maker:
         return layers, tuple(bids)
 
 
+def always(many):
+    """A saying of so many words that always holds."""
+    return ("yes" if many % 2 else "no",) + ("not",) * (many - 1)
+
+
 def lives_somewhere(house, bet):
     return any(truth(house[0], bet[1], world) for world in worlds(house))
 
@@ -338,3 +343,37 @@ def check_steady(case, asked, calls):
     case.assertEqual([asked(*call) for call in reversed(calls)], told[::-1])
     case.assertEqual([repr(asked(*call)) for call in copy.deepcopy(calls)], [repr(one) for one in told])
     case.assertEqual(repr(calls), repr(ahead))
+
+
+def cause_right(house, bids, thing):
+    """Whether a thing is a cause of the bids, part by part."""
+    if not (type(thing) is tuple and len(thing) == 3 and all(type(part) is tuple for part in thing)):
+        return False
+    numbers, stakes, others = thing
+    if not (numbers and all(number(one) and 0 <= one < len(bids) for one in numbers)
+            and sorted(set(numbers)) == list(numbers)):
+        return False
+    if len(others) != len(numbers) or not losing(house, tuple(bids[one] for one in numbers), stakes):
+        return False
+    return all(layers_right(house, tuple(bids[other] for other in numbers if other != one), layers)
+               for one, layers in zip(numbers, others))
+
+
+def days_gained(house, bids, cells, lists, stakes, later):
+    """What two days' stakes gain at each world, Fractions or None."""
+    told = []
+    for place, world in enumerate(worlds(house)):
+        at = [truth(house[0], cell, world) for cell in cells].index(True)
+        both = (gained(house, bids, stakes)[place], gained(house, lists[at], later[at])[place])
+        alive = [gain for gain in both if gain is not None]
+        told.append(sum(alive, Fraction(0)) if alive else None)
+    return told
+
+
+def days_right(house, bids, cells, lists, thing):
+    if not (type(thing) is tuple and len(thing) == 2 and stakes_right(bids, thing[0])
+            and type(thing[1]) is tuple and len(thing[1]) == len(lists)
+            and all(stakes_right(row, stakes) for row, stakes in zip(lists, thing[1]))):
+        return False
+    alive = [gain for gain in days_gained(house, bids, cells, lists, thing[0], thing[1]) if gain is not None]
+    return bool(alive) and max(alive) < 0

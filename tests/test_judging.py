@@ -160,7 +160,7 @@ class TestJudged(unittest.TestCase):
             self.assertEqual(self.check(SIX, bids), "fair")
             bet, price = bids[turn]
             worse = list(bids)
-            worse[turn - 1] = (so_often(turned(bet), (3, 1)), shifted((0, 1), -3 * worth(price) + Fraction(1, 10 ** 30)))
+            worse[turn - 1] = (so_often(turned(bet), (3, 1)), pair_of(-3 * worth(price) + Fraction(1, 10 ** 30)))
             self.assertEqual(self.check(SIX, tuple(worse)), "loss")
 
     def test_great_figures(self):

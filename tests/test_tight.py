@@ -38,7 +38,8 @@ class TestTightened(unittest.TestCase):
         self.assertEqual(tightened(HOUSE, bids), bids[:2] + ((both, (2, 15)),))
         self.assertEqual(tightened(HOUSE, bids[::-1]), ((both, (2, 15)),) + bids[1::-1])
         self.assertEqual(tightened(HOUSE, ((A_BY_B, (-7, 1)),)), ((A_BY_B, (0, 1)),))
-        self.assertEqual(tightened(HOUSE, ((both, (1, 2)), (on(("b",)), (1, 3)))), ((both, (1, 2)), (on(("b",)), (1, 2))))
+        self.assertEqual(tightened(HOUSE, ((both, (1, 2)), (on(("b",)), (1, 3)))),
+                         ((both, (1, 2)), (on(("b",)), (1, 2))))
 
     def test_the_same_bid_again_at_a_lower_price(self):
         for other in ((1, 3), (0, 1), (-2, 1), shifted((1, 2), -BIT)):
