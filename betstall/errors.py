@@ -6,7 +6,7 @@ class StallError(ValueError):
 
 
 class TooLong(StallError):
-    """A saying would have too many words, or a bet too many terms."""
+    """A saying would have too many words, a bet too many terms, or a price too many figures."""
 
 
 class TooMany(StallError):

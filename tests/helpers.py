@@ -46,6 +46,8 @@ def part_variants(thing):
         return [thing + 1, thing - 1, -thing, thing * 2, str(thing), (thing,), thing == 1, None]
     if isinstance(thing, str):
         return [thing + "a", thing[1:], thing[::-1], thing.upper(), (thing,), list(thing), None]
+    if isinstance(thing, (list, dict)):
+        return [tuple(thing), (), None]
     return variants(thing)
 
 
