@@ -379,3 +379,14 @@ def days_right(house, bids, cells, lists, thing):
         return False
     alive = [gain for gain in days_gained(house, bids, cells, lists, thing[0], thing[1]) if gain is not None]
     return bool(alive) and max(alive) < 0
+
+
+def between_right(house, one, other, thing):
+    """Whether a thing is stakes for two lists that lose surely by both, told world by world."""
+    if not (type(thing) is tuple and len(thing) == 2 and stakes_right(one, thing[0]) and stakes_right(other, thing[1])):
+        return False
+    told = []
+    for gains in zip(gained(house, one, thing[0]), gained(house, other, thing[1])):
+        alive = [gain for gain in gains if gain is not None]
+        told += [sum(alive, Fraction(0))] if alive else []
+    return bool(told) and max(told) < 0
