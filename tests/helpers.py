@@ -67,6 +67,25 @@ def variants(row):
     return told
 
 
+def changed(dice, row):
+    """A tuple with one part changed, left out or put in, somewhere in it; quicker than one of all variants."""
+    at = dice.randint(0, len(row))
+    if at < len(row) and isinstance(row[at], tuple) and dice.random() < 0.8:
+        return row[:at] + (changed(dice, row[at]),) + row[at + 1:]
+    told = [row[:at] + (dice.choice(SWAPS),) + row[at:], row[:at] + (dice.choice(SWAPS),) + row[at + 1:],
+            row[:at] + row[at + 1:], row[:at] + row[at:at + 1] + row[at:], list(row), row[::-1]]
+    if at < len(row) and not isinstance(row[at], tuple):
+        told += [row[:at] + (part,) + row[at + 1:] for part in part_variants(row[at])]
+    return dice.choice(told)
+
+
+def often_changed(dice, row, many):
+    """A tuple with so many changes, one behind another."""
+    for turn in range(many):
+        row = changed(dice, row) if isinstance(row, tuple) else row
+    return row
+
+
 def check_checker(case, checker, right, others=()):
     """A checker tells just what a second way tells, of all things and of others, and changes none."""
     for thing in things() + list(others):

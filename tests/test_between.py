@@ -28,7 +28,7 @@ A_BY_B = on(("a",), ("b",))
 ONE = ((ON_A, (1, 2)),)
 OTHER = ((on(("a", "not")), (2, 3)),)
 BOTH = (((1, 1),), ((1, 1),))
-# b for a half from the one; a and b for 1/3 from the other, which also sells a on b for 1/2.
+# The one holds b for sure not to be, and gives 2/3 for a on b; the other sells that for 1/2.
 DEEP_ONE = ((on(("b", "not")), (1, 1)), (A_BY_B, (2, 3)))
 DEEP_OTHER = ((turned(A_BY_B), (-1, 2)),)
 

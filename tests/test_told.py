@@ -2,21 +2,27 @@
 
 import unittest
 
+from betstall.beside import beside, layers_beside
+from betstall.between import between, right_between
 from betstall.books import gains_of, right_loss
 from betstall.causepaper import right_cause
 from betstall.causes import cause_of
 from betstall.daying import judged_days
+from betstall.deeds import done
 from betstall.idle import idle_in, without_idle
 from betstall.judging import judged
 from betstall.layers import right_layers
+from betstall.led import led_house, led_weighing
 from betstall.lowpaper import right_low
 from betstall.news import carried
 from betstall.prices import high_of, low_of
+from betstall.stands import first_stand, is_stand, worst_of
 from betstall.tight import tightened
 from betstall.twodays import gains_over, joined, right_days
 
-from tests.helpers import (Maker, cause_right, check_checker, days_right, even, layers_right, losing, low_right,
-                           variants)
+from tests.halls import stand_right
+from tests.helpers import (Maker, between_right, cause_right, check_checker, days_right, even, layers_right, losing,
+                           low_right, variants)
 
 HOUSE = ("ab", ())
 
@@ -32,6 +38,10 @@ UNFAIR = ((A_BY_B, (2, 3)), (on(("a", "not"), ("b",)), (1, 2)))
 CELLS = (("b",), ("b", "not"))
 LISTS = (((on(("a", "not")), (1, 2)),), ())
 TODAY = ((A_BY_B, (2, 3)),)
+SALE = ((on(("a", "not"), ("b",)), (1, 2)),)
+START = first_stand(HOUSE, ((3, 1), (5, 2)))
+DEALT = done(START, ("deal", 0, 1, A_BY_B, (1, 3), (2, 1)))
+POSTED = done(DEALT[1], ("post", 1, FAIR))
 
 
 def told_things():
@@ -41,7 +51,11 @@ def told_things():
             without_idle(HOUSE, FAIR), cause_of(HOUSE, UNFAIR), carried(HOUSE, FAIR, ("b",)),
             judged_days(HOUSE, TODAY, CELLS, LISTS), judged_days(HOUSE, FAIR, CELLS, ((), ())),
             joined(HOUSE, TODAY, CELLS, LISTS), gains_of(HOUSE, FAIR, ((1, 1), (1, 2))),
-            gains_over(HOUSE, TODAY, CELLS, LISTS, ((1, 1),), (((1, 1),), ())), even(HOUSE), (even(HOUSE),)]
+            gains_over(HOUSE, TODAY, CELLS, LISTS, ((1, 1),), (((1, 1),), ())), even(HOUSE), (even(HOUSE),),
+            between(HOUSE, TODAY, SALE), between(HOUSE, FAIR, ()), beside(HOUSE, ("c", ())),
+            layers_beside(HOUSE, (even(HOUSE),), ("c", ()), (even(("c", ())),)), led_house(HOUSE, "ba"),
+            led_weighing(HOUSE, even(HOUSE), "ba"), START, DEALT, POSTED, done(POSTED[1], ("hear", ("b",))),
+            done(POSTED[1], ("hear", ("a",))), worst_of(DEALT[1], 0)]
 
 
 def parts(thing):
@@ -90,6 +104,15 @@ class TestTold(unittest.TestCase):
         self.assertEqual(kind, "loss")
         self.check(lambda thing: right_days(HOUSE, TODAY, CELLS, LISTS, thing),
                    lambda thing: days_right(HOUSE, TODAY, CELLS, LISTS, thing), [days])
+
+    def test_right_between(self):
+        kind, stakes = between(HOUSE, TODAY, SALE)
+        self.assertEqual(kind, "gain")
+        self.check(lambda thing: right_between(HOUSE, TODAY, SALE, thing),
+                   lambda thing: between_right(HOUSE, TODAY, SALE, thing), [stakes])
+
+    def test_is_stand(self):
+        self.check(is_stand, stand_right, [START, DEALT[1]])
 
 
 if __name__ == "__main__":
