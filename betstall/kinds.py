@@ -9,3 +9,17 @@ def is_number(thing):
 def is_row(thing, least, most):
     """Whether it is a tuple of at least and at most so many things."""
     return isinstance(thing, tuple) and least <= len(thing) <= most
+
+
+def is_same(own, thing):
+    """Whether anything is just what this package told (rows, numbers, texts and None), kinds too."""
+    if isinstance(own, tuple):
+        if not is_row(thing, len(own), len(own)):
+            return False
+        return all([is_same(part, other) for part, other in zip(own, thing)])
+    # A truth is equal to a number, but is none.
+    if is_number(own):
+        return is_number(thing) and own == thing
+    if isinstance(own, str):
+        return isinstance(thing, str) and own == thing
+    return own is None and thing is None

@@ -26,7 +26,7 @@ STATEMENTS = (ast.Assign, ast.AugAssign, ast.If, ast.While, ast.For, ast.Return,
               ast.Raise, ast.Assert, ast.Delete, ast.Try, ast.Expr, ast.FunctionDef, ast.ClassDef, ast.ImportFrom)
 WITHOUT = (ast.Lambda, ast.Set, ast.SetComp, ast.NamedExpr, ast.Await, ast.Div, ast.Global, ast.AsyncFor,
            ast.AsyncFunctionDef, ast.Starred, ast.Yield, ast.YieldFrom)
-SPECIAL = ("__init__",)
+SPECIAL = ("__init__", "__len__", "__eq__")
 BARRED_ATTRIBUTES = set("""items keys values pop update append clear extend insert remove reverse setdefault sort args
     encode decode hex fromhex format as_integer_ratio bit_count conjugate from_bytes is_integer to_bytes""".split())
 LISTED = ("any", "all", "min", "max", "sum", "sorted")
