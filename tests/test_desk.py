@@ -7,7 +7,7 @@ import unittest
 from betstall.desk import Desk
 from betstall.stands import first_stand
 
-from tests.halls import HallMaker, LENGTHS, having, on, second_done, with_number
+from tests.halls import HallMaker, LENGTHS, having, second_done, with_number
 from tests.helpers import pair_of, things, worlds
 from tests.papers import (bet_text, bid_text, changed_text, fraction_text, loose_bid, second_bet, second_fraction,
                           second_saying)
