@@ -17,9 +17,7 @@ def is_same(own, thing):
         if not is_row(thing, len(own), len(own)):
             return False
         return all([is_same(part, other) for part, other in zip(own, thing)])
-    # A truth is equal to a number, but is none.
-    if is_number(own):
-        return is_number(thing) and own == thing
-    if isinstance(own, str):
-        return isinstance(thing, str) and own == thing
-    return own is None and thing is None
+    # A truth is equal to a number, but is none; to a text and to None nothing of another kind is equal.
+    if is_number(own) and not is_number(thing):
+        return False
+    return own == thing

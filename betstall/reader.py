@@ -3,7 +3,7 @@
 from betstall.bets import is_bet
 from betstall.bids import are_bids, is_bid
 from betstall.errors import NoText
-from betstall.houses import are_letters, is_house
+from betstall.houses import is_house
 from betstall.sayings import is_saying
 from betstall.texts import read_fraction
 
@@ -88,7 +88,7 @@ def read_stall(thing):
     """The house and the bids that anything is the text of."""
     rows = rows_in(thing)
     first = rows[0]
-    if len(first) != 2 or first[0] != "letters" or not are_letters(first[1]):
+    if len(first) != 2 or first[0] != "letters":
         raise NoText()
     heads = [row[0] for row in rows[1:]]
     rules = heads.count("rule")

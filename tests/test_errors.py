@@ -16,6 +16,8 @@ class TestErrors(unittest.TestCase):
             self.assertIsInstance(made, errors.StallError)
             self.assertIsInstance(made, ValueError)
             self.assertEqual(type(made).__name__, name)
+            self.assertEqual(made.named, name)
+            self.assertEqual(made.args, ())
 
     def test_what_stands_straight_under_what(self):
         self.assertEqual(errors.StallError.__bases__, (ValueError,))

@@ -152,6 +152,19 @@ class TestForm(unittest.TestCase):
                 name = called.id if isinstance(called, ast.Name) else called.attr
                 self.assertNotIn(name, ("zip", "enumerate", "reversed", "range", "items", "keys", "values"), path.name)
 
+    def test_own_errors_alone_are_caught(self):
+        errors = [node.name for node in ast.parse(read(PACKAGE / "errors.py")).body if isinstance(node, ast.ClassDef)]
+        for path, node in nodes():
+            if isinstance(node, ast.ExceptHandler):
+                self.assertIsInstance(node.type, ast.Name, path.name)
+                self.assertIn(node.type.id, errors, path.name)
+                named = [one for one in ast.walk(node) if isinstance(one, ast.Name) and one.id == node.name]
+                read_off = [one.value for one in ast.walk(node) if isinstance(one, ast.Attribute)]
+                self.assertTrue(all(one in read_off for one in named), path.name)
+            if isinstance(node, ast.Raise):
+                self.assertIsInstance(node.exc, ast.Call, path.name)
+                self.assertIn(node.exc.func.id, errors, path.name)
+
     def test_every_import_is_used(self):
         for path, tree in trees():
             names = [node.id for node in ast.walk(tree) if isinstance(node, ast.Name)]
